@@ -1,0 +1,1 @@
+"""Runpaint: pictures told by the runs of their rows and columns."""
