@@ -86,6 +86,29 @@ class Language(unittest.TestCase):
             self.assertEqual(node.level, 0, name)
             self.assertNotIn("*", [alias.name for alias in node.names], name)
 
+    def test_each_name_is_drawn_from_the_file_that_defines_it(self):
+        """L16: and no two files draw from one another."""
+        defined = {
+            f"runpaint.{name[:-3]}": [part.name for part in tree.body if isinstance(part, (ast.FunctionDef, ast.ClassDef))]
+            for name, tree in trees()
+        }
+        drawn = {f"runpaint.{name[:-3]}": [] for name, _ in trees()}
+        for name, node in nodes(ast.ImportFrom):
+            for alias in node.names:
+                self.assertIn(alias.name, defined[node.module], name)
+            drawn[f"runpaint.{name[:-3]}"].append(node.module)
+        while drawn:
+            free = [name for name, others in drawn.items() if not set(others) & set(drawn)]
+            self.assertTrue(free, drawn)
+            drawn = {name: others for name, others in drawn.items() if name not in free}
+
+    def test_no_name_is_a_method_here_and_a_value_there(self):
+        """L18."""
+        methods = [part.name for _, node in nodes(ast.ClassDef) for part in node.body if isinstance(part, ast.FunctionDef)]
+        for name, node in nodes(ast.Attribute):
+            if isinstance(node.ctx, ast.Store):
+                self.assertNotIn(node.attr, methods, (name, node.lineno))
+
     def test_functions(self):
         """L4, L10, L21."""
         for name, node in nodes(ast.FunctionDef):

@@ -3,10 +3,14 @@
 import copy
 import unittest
 
-from runpaint import boards, lines
+from runpaint import boards, judging, lines, narrowing, notes
 from runpaint.errors import PaintError
 
 SIGHT = [None, 1, None, None, 0, None, None]
+SMALL = (((2,), (1,)), ((1,), (2,)))
+LOOSE = (((1,), (1,), ()), ((1,), (1,)))
+BARREN = (((1,), (1,)), ((1,), ()))
+BLANK = [[None, None], [None, None]]
 CALLS = (
     (lines.runs_of, ([1, 1, 0, 1],)),
     (lines.runs_of, ([],)),
@@ -23,12 +27,35 @@ CALLS = (
     (boards.board_of, ([[1, 1, 0], [0, 1, 1]],)),
     (boards.fits, ((((2,), (1,)), ((1,), (2,))), [[1, 1], [0, 1]])),
     (boards.fits, ((((2,), (1,)), ((1,), (2,))), [[1, 1], [1, 1]])),
+    (narrowing.empty_view, (SMALL,)),
+    (narrowing.empty_view, (LOOSE,)),
+    (narrowing.narrowed, (SMALL, BLANK)),
+    (narrowing.narrowed, (SMALL, [[1, 1], [0, 1]])),
+    (narrowing.narrowed, (LOOSE, [[None, None], [None, None], [None, None]])),
+    (narrowing.narrowed, (LOOSE, [[None, None], [None, None], [0, 0]])),
+    (narrowing.steps, (SMALL, BLANK)),
+    (narrowing.steps, (SMALL, [[1, 1], [0, 1]])),
+    (narrowing.steps, (LOOSE, [[None, 1], [None, None], [None, None]])),
+    (judging.judged, (SMALL,)),
+    (judging.judged, (LOOSE,)),
+    (judging.judged, (BARREN,)),
+    (judging.judged, ((((1,),) * 3, ((1,),) * 2),)),
+    (judging.judged, ((((1,),) * 12, ((1,),) * 12),)),
+    (notes.shown, (SMALL,)),
+    (notes.shown, (LOOSE,)),
+    (notes.read, ("1 1,0|1,0,1",)),
 )
 REFUSED = (
     (lines.laying, ((2, 1), SIGHT, 99)),
     (lines.number_of, ((2, 1), SIGHT, [0, 1, 1, 0])),
     (lines.best, ((5, 1), SIGHT)),
     (boards.looked, ((((3,), (1,)), ((1,), (2,))),)),
+    (narrowing.narrowed, (BARREN, BLANK)),
+    (narrowing.narrowed, (SMALL, [[None, None], [1, None]])),
+    (narrowing.steps, (BARREN, BLANK)),
+    (narrowing.steps, (SMALL, [[None, None], [1, None]])),
+    (notes.read, ("1 0|0",)),
+    (notes.read, ("2|1",)),
 )
 
 
